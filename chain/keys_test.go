@@ -104,7 +104,7 @@ func TestKeysThatAreNotEqualToThemselves(t *testing.T) { // P17.1 to P17.3: each
 		push(t, c, 1, 2)
 		push(t, c, nan, 0, 1)
 		if c.First(nan) != -1 || c.Len(nan) != 0 || len(c.All(nan)) != 0 || len(c.Take(nan)) != 0 || c.Total() != 3 {
-			t.Fatalf("round %d: there is a chain of no number", round)
+			t.Fatalf("round %d: there is a chain of NaN", round)
 		}
 		if c.Push(nan, 0) || c.Push(1, 0) || c.Next(0) != -1 || c.Next(1) != -1 {
 			t.Fatalf("round %d: thing 0 is in none", round)
